@@ -1,0 +1,48 @@
+"""What several tests use: the questions of the document, values of all kinds, and a strict look at errors."""
+
+from touchrows.base.questions import Question
+from touchrows.base.ratios import Ratio
+
+TRI = Question({"r": ("a", "b"), "s": ("b", "c"), "t": ("a", "c")}, ())
+STAR = Question({"r": ("a", "b"), "s": ("a", "c"), "u": ("a",)}, ("a",))
+PATH = Question({"r": ("a", "b"), "s": ("b", "c"), "t": ("c", "d")}, ())
+
+LONGEST = 10 ** 60 - 1
+
+
+def all_kinds():
+    """Values of every kind that the document says is refused where it does not fit."""
+    nested = ()
+    for _ in range(7):
+        nested = (nested,)
+    return [
+        None, True, False, 0, 1, -1, LONGEST, LONGEST + 1, -LONGEST - 1, 10 ** 99, "", "a", "A", "r s", "1/2", "\n",
+        "~" * 4000, "a" * 4000, (), ("a",), (1, 2), ("a", None), [], ["a"], [[1]], {}, {"a": 1}, {1: 2},
+        {None: ()}, {("a",): []}, nested, Ratio(1, 2), Ratio(3, 1), TRI,
+    ]
+
+
+def kinds_but(*fitting):
+    """The values of every kind that are of none of some classes; True and False count as their own class."""
+    return [value for value in all_kinds() if type(value) not in fitting]
+
+
+class Strict:
+    """To be mixed into a test case."""
+
+    def assertFails(self, error, call, *given, **named):
+        """The call raises just this error, and not one derived from it; the error is returned."""
+        with self.assertRaises(error) as caught:
+            call(*given, **named)
+        self.assertIs(type(caught.exception), error, (given, named))
+        return caught.exception
+
+    def assertKeeps(self, error, attribute, value, call, *given, **named):
+        """The call raises just this error, which keeps the very value."""
+        kept = getattr(self.assertFails(error, call, *given, **named), attribute)
+        self.assertIs(type(kept), type(value))
+        self.assertEqual(kept, value)
+
+    def assertSame(self, told, wanted):
+        """Equal, and of equal kinds: True is not 1, a list is no tuple."""
+        self.assertEqual(repr(told), repr(wanted))

@@ -1,0 +1,13 @@
+"""What README.md shows is what happens."""
+
+import doctest
+import pathlib
+import unittest
+
+
+class Readme(unittest.TestCase):
+    def test_examples(self):
+        path = pathlib.Path(__file__).resolve().parent.parent / "README.md"
+        failed, tried = doctest.testfile(str(path), module_relative=False)
+        self.assertEqual(failed, 0)
+        self.assertGreater(tried, 0)

@@ -1,0 +1,1 @@
+"""Touchrows: how many rows a change touches in kept views."""
