@@ -15,7 +15,8 @@ NO_LINES = (
     "table r a b 1", "table 1 a", "r a b", "table r a\ntable s a",
     "size", "size r", "size r ", "size r  2", "size r 2 ", " size r 2", "size r +2", "size r 02", "size r 2/1", "size r 2/4",
     "size r 1/0", "size r -0", "size r 1.5", "size r a", "size r 1 2", "size R 2", "size 2", "size 2 r", "Size r 2",
-    "size abcdefghi 2", "size r 2\n",
+    "size abcdefghi 2", "size r 2\n", f"size r {LONGEST + 1}", f"size r -{LONGEST + 1}", f"size r 1/{LONGEST + 1}",
+    "size r " + "9" * 3900,
     "group", "group ", "group  a", "group a ", " group a", "group b a", "group a a", "group A", "group a 1", "Group a",
     "groups a", "group a,b", "group abcdefghi",
 )
@@ -95,7 +96,7 @@ class Read(Strict, unittest.TestCase):
             ("table r a", "group a b c d e f g h i"), ("table r a", "size r 10"), ("table r a", "size r -1"),
             ("table r a", "size r 1/61"), ("table r a", "size r 541/60"), ("table r a", "size r -1/3"),
             ("table r a b c d e", "table s f g h i"), ("table r a", f"size r {LONGEST}"),
-            ("table r a", f"size r 1/{LONGEST ** 2}"), tuple(f"table {name} a" for name in "abcdefg"),
+            ("table r a", f"size r 1/{LONGEST}"), tuple(f"table {name} a" for name in "abcdefg"),
         ):
             self.assertFails(InvalidQuestion, Question.from_lines, *lines)
 

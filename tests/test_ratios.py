@@ -76,14 +76,22 @@ class Texts(Strict, unittest.TestCase):
             self.assertFails(InvalidRatio, Ratio.of_text, value)
         self.assertFails(InvalidRatio, Ratio.of_text, "9" * 2000 + "/" + "9" * 1999)
 
-    def test_what_is_told_can_be_handed_on(self):
+    def test_sixty_digits(self):
+        for pair in ((LONGEST, 1), (-LONGEST, 1), (1, LONGEST), (-1, LONGEST), (LONGEST, 10 ** 59), (1 - LONGEST, LONGEST)):
+            self.assertEqual(Ratio.of_text(str(Ratio(*pair))).pair, pair)
+        longer = ("9" * 61, "1" + "0" * 60)
+        for text in longer:
+            for wrong in (text, "-" + text, "1/" + text, "-1/" + text, text + "/7", "-" + text + "/7", text + "/" + text):
+                self.assertFails(InvalidRatio, Ratio.of_text, wrong)
+
+    def test_longer_texts_are_written_but_not_read(self):
         big = Ratio(LONGEST, 2) * Ratio(LONGEST, 8)
         self.assertEqual(str(big), f"{LONGEST ** 2}/16")
-        self.assertEqual(Ratio.of_text(str(big)), big)
         for _ in range(8):
+            self.assertFails(InvalidRatio, Ratio.of_text, str(big))
+            self.assertFails(InvalidRatio, Ratio.of_text, str(Ratio(1, 1).over(-big)))
             big = big * big
-        self.assertEqual(Ratio.of_text(str(big)), big)
-        self.assertEqual(Ratio.of_text(str(-big)), -big)
+        self.assertFails(InvalidRatio, Ratio.of_text, str(-big))
 
 
 class Operators(Strict, unittest.TestCase):

@@ -1,14 +1,14 @@
-"""Integers as decimal texts, whatever their length.
+"""Integers as decimal texts.
 
-Python itself refuses to convert integers of some thousand digits, and results can be that long. So both
-directions go block by block.
+Results can have more digits than Python itself writes, so the writing goes block by block. What is read is
+passed by a caller, and has at most sixty digits.
 """
 
 from touchrows.base.words import BEYOND, MAX_FIGURES
 
 
 def written(number):
-    """The decimal text of an integer."""
+    """The decimal text of an integer of whatever length."""
     sign = "-" if number < 0 else ""
     rest = abs(number)
     blocks = []
@@ -19,22 +19,11 @@ def written(number):
     return "".join(blocks[::-1])
 
 
-def _value_of(figures):
-    """The integer of at least 0 that a text of nothing but figures stands for."""
-    first = len(figures) % MAX_FIGURES
-    number = int("0" + figures[:first])
-    for at in range(first, len(figures), MAX_FIGURES):
-        number = number * BEYOND + int(figures[at:at + MAX_FIGURES])
-    return number
-
-
 def integer_in(text):
-    """The integer of which a string is the decimal text; None if it is no such text."""
+    """The integer of at most sixty digits of which a string is the decimal text; None if it is no such text."""
     figures = text.removeprefix("-")
-    if not figures.isascii() or not figures.isdigit():
+    if not figures.isascii() or not figures.isdigit() or len(figures) > MAX_FIGURES:
         return None
-    number = _value_of(figures)
-    if text.startswith("-"):
-        number = -number
+    number = int(text)
     # Leading zeros and -0 are read above, but never written.
-    return number if written(number) == text else None
+    return number if str(number) == text else None
