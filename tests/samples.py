@@ -2,10 +2,15 @@
 
 from touchrows.base.questions import Question
 from touchrows.base.ratios import Ratio
+from touchrows.data.stores import Store
+from touchrows.keep.keepers import Keeper
+from touchrows.plan.plans import Plan
 
 TRI = Question({"r": ("a", "b"), "s": ("b", "c"), "t": ("a", "c")}, ())
 STAR = Question({"r": ("a", "b"), "s": ("a", "c"), "u": ("a",)}, ("a",))
 PATH = Question({"r": ("a", "b"), "s": ("b", "c"), "t": ("c", "d")}, ())
+THREE = Store(TRI, {"r": ((1, 2), (1, 3)), "s": ((2, 5), (3, 5)), "t": ((1, 5),)})
+PLAN = Plan.of_text(TRI, "((r s) t)")
 
 LONGEST = 10 ** 60 - 1
 
@@ -19,12 +24,22 @@ def all_kinds():
         None, True, False, 0, 1, -1, LONGEST, LONGEST + 1, -LONGEST - 1, 10 ** 99, "", "a", "A", "r s", "1/2", "\n",
         "~" * 4000, "a" * 4000, (), ("a",), (1, 2), ("a", None), [], ["a"], [[1]], {}, {"a": 1}, {1: 2},
         {None: ()}, {("a",): []}, nested, Ratio(1, 2), Ratio(3, 1), TRI,
+        THREE, PLAN, Keeper(PLAN, THREE),
     ]
 
 
 def kinds_but(*fitting):
     """The values of every kind that are of none of some classes; True and False count as their own class."""
     return [value for value in all_kinds() if type(value) not in fitting]
+
+
+def shape_of(value):
+    """What == passes over: the kinds of a value and of its parts, and the order of the keys of a dict."""
+    if isinstance(value, (list, tuple)):
+        return (type(value), [shape_of(part) for part in value])
+    if isinstance(value, dict):
+        return (dict, list(value), [shape_of(part) for pair in value.items() for part in pair])
+    return type(value)
 
 
 class Strict:
@@ -44,5 +59,6 @@ class Strict:
         self.assertEqual(kept, value)
 
     def assertSame(self, told, wanted):
-        """Equal, and of equal kinds: True is not 1, a list is no tuple."""
-        self.assertEqual(repr(told), repr(wanted))
+        """Equal, of equal kinds (True is not 1, a list is no tuple), and dicts with their keys in one order."""
+        self.assertEqual(told, wanted)
+        self.assertEqual(shape_of(told), shape_of(wanted))

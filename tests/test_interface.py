@@ -13,10 +13,37 @@ DEFINED = {
     "touchrows.base.words": {"is_integer": "value", "is_count": "value", "is_name": "value"},
     "touchrows.base.ratios": {"Ratio": "top, bottom", "sum_of": "ratios", "greatest_of": "ratios"},
     "touchrows.base.questions": {"Question": "tables, groups, *, sizes=None"},
+    "touchrows.data.stores": {
+        "Store": "question, rows", "readings": "store, *, among=None", "count_readings": "store", "answer_of": "store",
+    },
+    "touchrows.plan.plans": {"Plan": "question, views", "flat_plan": "question"},
+    "touchrows.plan.shapes": {
+        "count_plans": "question", "each_plan": "question", "plan_at": "question, number", "number_of": "plan",
+    },
+    "touchrows.keep.keepers": {"Keeper": "plan, store"},
+}
+# Parameters of methods; those of the signs are checked by using them.
+METHOD_PARAMETERS = {
+    "touchrows.base.questions.Question": {
+        "tables_with": "column", "with_table": "name, columns", "with_size": "name, size", "with_groups": "groups",
+        "without_table": "name", "renamed": "tables, columns",
+    },
+    "touchrows.data.stores.Store": {
+        "has_row": "table, value", "with_row": "table, row", "without_row": "table, row", "fits": "number",
+    },
+    "touchrows.plan.plans.Plan": {
+        "children": "view", "parent": "view", "kept": "view", "met": "view", "path": "table", "open_columns": "view, table",
+        "with_view": "view", "without_view": "view", "over": "question",
+    },
+    "touchrows.keep.keepers.Keeper": {
+        "put": "table, row", "take": "table, row", "foreseen": "table, row", "touched_rows": "view, table, row", "twin": "",
+        "__call__": "table, row",
+    },
 }
 CONSTANTS = {
     "touchrows.base.words": {"MAX_LETTERS": 8, "MAX_FIGURES": 60},
     "touchrows.base.questions": {"MAX_TABLES": 6, "MAX_COLUMNS": 8, "MAX_SIZE": 9},
+    "touchrows.data.stores": {"MAX_ROWS": 2000, "MAX_READINGS": 100000},
 }
 METHODS = {
     "touchrows.base.ratios.Ratio": (
@@ -25,6 +52,17 @@ METHODS = {
     "touchrows.base.questions.Question": (
         "tables_with with_table with_size with_groups without_table renamed __len__ __iter__ __contains__ __eq__ __str__",
         "from_lines", "tables sizes groups names columns lines",
+    ),
+    "touchrows.data.stores.Store": (
+        "has_row with_row without_row fits __add__ __sub__ __contains__ __len__ __iter__ __eq__ __str__", "", "question rows",
+    ),
+    "touchrows.plan.plans.Plan": (
+        "children parent kept met path open_columns with_view without_view over __contains__ __len__ __iter__ __eq__ __str__",
+        "of_text", "question views root text",
+    ),
+    "touchrows.keep.keepers.Keeper": (
+        "put take foreseen touched_rows twin __call__ __getitem__ __len__ __eq__ __str__", "",
+        "plan store result total changes",
     ),
 }
 
@@ -48,6 +86,13 @@ class Interface(unittest.TestCase):
                 if parameters:
                     with self.subTest(module, name=name):
                         self.assertEqual(str(inspect.signature(found(f"{module}.{name}"))), f"({parameters})")
+
+    def test_parameters_of_methods(self):
+        for place, methods in METHOD_PARAMETERS.items():
+            for name, parameters in methods.items():
+                with self.subTest(place, name=name):
+                    wanted = f"(self, {parameters})" if parameters else "(self)"
+                    self.assertEqual(str(inspect.signature(getattr(found(place), name))), wanted)
 
     def test_constants(self):
         for module, names in CONSTANTS.items():

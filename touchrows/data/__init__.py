@@ -1,0 +1,1 @@
+"""Stores of rows, and what stands in them side by side."""

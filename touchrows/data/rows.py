@@ -1,0 +1,18 @@
+"""Rows: tuples of integers, one for each of some ascending columns."""
+
+from touchrows.base.words import is_integer
+
+
+def is_row(value, many):
+    """Whether the value is a row of so many columns."""
+    return isinstance(value, tuple) and len(value) == many and all([is_integer(one) for one in value])
+
+
+def places_of(columns, wanted):
+    """Where the wanted columns stand among the columns."""
+    return tuple([columns.index(column) for column in wanted])
+
+
+def picked(row, places):
+    """The row of the values at these places."""
+    return tuple([row[at] for at in places])

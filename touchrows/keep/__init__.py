@@ -1,0 +1,1 @@
+"""Contents of views, kept while a store changes."""

@@ -1,0 +1,1 @@
+"""Plans: trees of views."""
