@@ -93,7 +93,8 @@ class Words(unittest.TestCase):
 
     def test_builtins_are_not_named_anew(self):
         for name, word in bound_names():
-            self.assertFalse(hasattr(builtins, word), (name, word))
+            # A doctest that ran earlier has made "_" a builtin.
+            self.assertFalse(hasattr(builtins, word) and word != "_", (name, word))
 
     def test_only_some_builtins(self):
         for name, node in nodes(ast.Name):
