@@ -1,5 +1,6 @@
 """What the document says, found by force, and drawn questions, stores and plans to find it for."""
 
+import fractions
 import itertools
 import random
 
@@ -122,3 +123,43 @@ def plans_by_force(question):
 def many(times, seed):
     """So many random sources that draw the same each time."""
     return [random.Random(f"{seed} {number}") for number in range(times)]
+
+
+def fraction(ratio):
+    return fractions.Fraction(ratio.top, ratio.bottom)
+
+
+def amounts(weights):
+    """The dict from the names of weights to fractions."""
+    return {name: fractions.Fraction(*pair) for name, pair in weights}
+
+
+def covers_by_force(question, tables, columns, weights):
+    """Whether weights of these tables cover these columns."""
+    told = amounts(weights)
+    return set(told) <= set(tables) and all(
+        sum(told.get(name, 0) for name in tables if column in question.tables[name]) >= 1 for column in columns
+    )
+
+
+def fills_by_force(question, tables, columns, weights):
+    """Whether these tables hold weights of these columns."""
+    told = amounts(weights)
+    return set(told) <= set(columns) and all(
+        sum(told.get(column, 0) for column in question.tables[name]) <= fraction(question.sizes[name]) for name in tables
+    )
+
+
+def price_by_force(question, weights):
+    return sum(weight * fraction(question.sizes[name]) for name, weight in amounts(weights).items())
+
+
+def drawn_weights(draw, names):
+    """Weights of some of the names."""
+    choices = [(1, 3), (1, 2), (2, 3), (1, 1), (3, 2), (2, 1), (1, 4), (5, 7)]
+    return tuple((name, draw.choice(choices)) for name in sorted(names) if draw.random() < 0.7)
+
+
+def places_of_plan(plan):
+    """All pairs of a view and a table of it."""
+    return [(view, table) for view in plan.views for table in view]

@@ -58,6 +58,20 @@ class Strict:
         self.assertIs(type(kept), type(value))
         self.assertEqual(kept, value)
 
+    def assertFirst(self, call, good, wrong):
+        """The call takes the good arguments; of wrong ones, the first in the list raises its error.
+
+        `wrong` is a list of triples: the place of an argument, a wrong value for it, and the error; what is checked first
+        stands first. Each value stands in for the good one alone, and beside each one further down the list.
+        """
+        call(*good)
+        for at, (place, value, error) in enumerate(wrong):
+            given = [*good[:place], value, *good[place + 1:]]
+            self.assertFails(error, call, *given)
+            for other_place, other_value, _ in wrong[at + 1:]:
+                if other_place != place:
+                    self.assertFails(error, call, *given[:other_place], other_value, *given[other_place + 1:])
+
     def assertSame(self, told, wanted):
         """Equal, of equal kinds (True is not 1, a list is no tuple), and dicts with their keys in one order."""
         self.assertEqual(told, wanted)

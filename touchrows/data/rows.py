@@ -16,3 +16,14 @@ def places_of(columns, wanted):
 def picked(row, places):
     """The row of the values at these places."""
     return tuple([row[at] for at in places])
+
+
+def all_rows(columns, counts):
+    """The ascending tuple of all rows whose values at a column are the first integers from 0, as many as a dict says;
+    a column that is not in it has the value 0 alone.
+    """
+    rows = [()]
+    for column in columns:
+        values = list(range(counts.get(column, 1)))
+        rows = [(*row, value) for row in rows for value in values]
+    return tuple(rows)
