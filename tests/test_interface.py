@@ -21,6 +21,27 @@ DEFINED = {
         "count_plans": "question", "each_plan": "question", "plan_at": "question, number", "number_of": "plan",
     },
     "touchrows.keep.keepers": {"Keeper": "plan, store"},
+    "touchrows.weigh.weights": {
+        **{name: "plan, view, table" for name in ("degree", "covering", "filling")},
+        **{f"is_{name}": "plan, view, table, value"
+           for name in ("covering", "filling", "least_covering", "greatest_filling")},
+        "price": "plan, weights", "worth": "weights", "bound": "weights, counts",
+    },
+    "touchrows.weigh.rooms": {
+        **{name: "plan, view" for name in ("room", "room_covering", "room_filling")},
+        **{name: "plan, view, value" for name in ("is_room_covering", "is_room_filling")},
+        **{name: "plan" for name in ("degrees", "plan_degree", "plan_room")}, "table_degree": "plan, table",
+    },
+    "touchrows.weigh.worst": {
+        "spread": "plan, view, table, weights", "worst_row": "plan, table", "is_witness": "plan, view, table, value",
+        **{name: "plan, view, table, weights, number" for name in ("worst_store", "worst_touched", "witness")},
+    },
+    "touchrows.weigh.never": {
+        "touched_in": "store, plan, view, table, row", "peak_in": "store, plan, table, row",
+        **{name: "plan, view, other, above, table" for name in ("is_never_more", "parting_store")},
+        "is_parting": "plan, view, other, above, table, value", "is_dearer": "plan, other, table, value",
+        **{name: "plan, other, table" for name in ("is_no_dearer", "dearer_store")},
+    },
 }
 # Parameters of methods; those of the signs are checked by using them.
 METHOD_PARAMETERS = {
@@ -44,6 +65,7 @@ CONSTANTS = {
     "touchrows.base.words": {"MAX_LETTERS": 8, "MAX_FIGURES": 60},
     "touchrows.base.questions": {"MAX_TABLES": 6, "MAX_COLUMNS": 8, "MAX_SIZE": 9},
     "touchrows.data.stores": {"MAX_ROWS": 2000, "MAX_READINGS": 100000},
+    "touchrows.weigh.worst": {"MAX_GROWTH": 1000},
 }
 METHODS = {
     "touchrows.base.ratios.Ratio": (

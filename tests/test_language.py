@@ -33,9 +33,9 @@ METHODS = set(
 LIBRARY = {"math": {"gcd", "lcm", "isqrt", "comb"}, "heapq": {"heappush", "heappop", "heapify"}}
 BARRED = set(
     "type typing typing_extensions enum Enum IntEnum StrEnum Flag IntFlag Generic Protocol ABC ABCMeta namedtuple "
-    "NamedTuple TypedDict TYPE_CHECKING abstractmethod register mro elements open input law version_info "
-    "with_traceback add_note _wall _WallAttr".split()
+    "NamedTuple TypedDict TYPE_CHECKING abstractmethod _wall _WallAttr".split()
 )
+BARRED_NAMES = set("register mro elements open input law version_info with_traceback add_note".split())
 STATEMENTS = (
     ast.FunctionDef, ast.ClassDef, ast.Return, ast.Delete, ast.Assign, ast.AugAssign, ast.For, ast.While, ast.If, ast.With,
     ast.Raise, ast.Try, ast.Assert, ast.ImportFrom, ast.Expr, ast.Pass, ast.Break, ast.Continue, ast.Match, ast.Nonlocal,
@@ -90,6 +90,11 @@ class Words(unittest.TestCase):
     def test_barred(self):
         for name, text in SOURCES.items():
             self.assertEqual(BARRED & set(re.findall(r"\w+", text)), set(), name)
+
+    def test_barred_names(self):
+        for name, node in nodes((ast.Name, ast.Attribute, ast.arg, ast.keyword, ast.FunctionDef, ast.ClassDef, ast.alias)):
+            words = {getattr(node, word, None) for word in ("id", "attr", "arg", "name")}
+            self.assertEqual(BARRED_NAMES & words, set(), name)
 
     def test_builtins_are_not_named_anew(self):
         for name, word in bound_names():

@@ -1,4 +1,4 @@
-"""Coverings and fillings: weights of tables by which columns are covered, and weights of columns that the tables hold."""
+"""Coverings and fillings: weights of tables by which columns are covered, weights of columns that the tables hold."""
 
 from touchrows.base.ratios import Ratio, sum_of
 from touchrows.weigh.pairs import common_bottom, is_weights_of, ratios_of, total_of_names, weights_of
@@ -8,8 +8,8 @@ from touchrows.weigh.simplex import solved
 class Program:
     """Some tables of a question with their sizes, and some columns, each of which stands in one of the tables.
 
-    A covering is weights of the tables that add up to at least 1 for each column, and a filling is weights of the
-    columns that add up to at most the size of each table. The least price of the one is the greatest worth of the other.
+    A covering is weights of the tables that add up to at least 1 for each column. A filling is weights of the columns
+    that add up to at most its size for each table. The least price of the one is the greatest worth of the other.
     """
 
     def __init__(self, question, tables, wanted):

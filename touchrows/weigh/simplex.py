@@ -8,10 +8,10 @@ number that was last turned around; so the divisions come out even.
 def solved(rows, limits, many):
     """The triple of a list of amounts, a list of prices, and the denominator of all of them.
 
-    There are so many amounts, each of at least 0; each row has 1 for the amounts that count for its limit, and 0 for the
-    others. The sum of the amounts is the greatest. The prices of the limits, one for each row, are at least 0, and those
-    of the rows that have an amount add up to at least 1. The sum of the limits, each times its price, is the least.
-    Prices and amounts are at a corner each, so that the denominators are small.
+    There are so many amounts, each of at least 0. Each row has 1 for the amounts that count for its limit, and 0 for
+    the others. The sum of the amounts is the greatest. The prices of the limits, one for each row, are at least 0, and
+    those of the rows that have an amount add up to at least 1. The sum of the limits, each times its price, is the
+    least. Amounts and prices are at a corner each, so that the denominators are small.
     """
     tableau = _begun(rows, limits, many)
     basis = [many + at for at in range(len(rows))]
