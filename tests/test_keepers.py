@@ -222,6 +222,21 @@ class Limits(Strict, unittest.TestCase):
             self.assertSame(Keeper(plan, store).result, {(): 100000})
             self.assertKeeps(TooMany, "limit", 100000, Keeper, plan, store + ("s", (50,)))
 
+    def test_one_more(self):
+        # 1999 * 50 readings with the value 0 at z, and 1 * 50 with 1, to which one more comes.
+        question = Question({"r": ("a", "z"), "s": ("b", "z")}, ())
+        rows = {"r": tuple((one, 0) for one in range(1999)), "s": tuple((one, 0) for one in range(50))}
+        rows["r"] += ((7, 1),)
+        rows["s"] += tuple((one, 1) for one in range(50))
+        store, plan = Store(question, rows), flat_plan(question)
+        keeper = Keeper(plan, store)
+        self.assertSame(keeper.result, {(): 100000})
+        self.check_refused(keeper, "s", (50, 1), (1, 1))
+        self.assertKeeps(TooMany, "limit", 100000, Keeper, plan, store + ("s", (50, 1)))
+        self.assertSame(keeper.take("s", (49, 1)), (1, 1))
+        self.assertSame(keeper.put("s", (50, 1)), (1, 1))
+        self.assertSame(keeper.result, {(): 100000})
+
     def test_puts(self):
         keeper = Keeper(flat_plan(APART), Store(APART, {"r": column(400), "s": column(250)}))
         self.assertSame(keeper.put("t", (0,)), (1, 100000))
@@ -244,6 +259,13 @@ class Limits(Strict, unittest.TestCase):
         self.check_refused(keeper, "t", (1,), (1, 1))
         self.assertSame(keeper.take("t", (0,)), (1, 1))
         self.assertSame(keeper.put("t", (1,)), (1, 1))
+
+    def test_what_is_foreseen_is_told_however_great(self):
+        names, letters = "rstuvw", tuple("abcdef")
+        question = Question({name: (letter,) for name, letter in zip(names, letters)}, letters)
+        keeper = Keeper(flat_plan(question), Store(question, {name: column(2000) for name in names[:5]}))
+        self.check_refused(keeper, "w", (7,), (1, 2000 ** 5))
+        self.assertSame(keeper.foreseen("r", (2000,)), (1, 0))
 
     def test_two_thousand_rows(self):
         keeper = Keeper(flat_plan(APART), Store(APART, {"r": column(2000)}))

@@ -71,6 +71,20 @@ class Touched(Strict, unittest.TestCase):
         store = Store(bare.question, {"r": column(1), "s": column(1), "t": column(2000)})
         self.assertSame(touched_in(store, bare, bare.root, "r", (0,)), 1)
 
+    def test_one_more(self):
+        # 1999 * 50 readings with the value 0 at z, and 1 * 50 with 1, to which one more comes.
+        question = Question({"r": ("a", "z"), "s": ("b", "z"), "t": ("c",)}, ("b",))
+        rows = {"r": tuple((one, 0) for one in range(1999)), "s": tuple((one, 0) for one in range(50))}
+        rows["r"] += ((7, 1),)
+        rows["s"] += tuple((one, 1) for one in range(50))
+        store, plan = Store(question, rows), flat_plan(question)
+        self.assertSame(touched_in(store, plan, plan.root, "t", (0,)), 100)
+        self.assertSame(peak_in(store, plan, "t", (0,)), 100)
+        more = store + ("s", (50, 1))
+        self.assertKeeps(TooMany, "limit", 100000, touched_in, more, plan, plan.root, "t", (0,))
+        self.assertKeeps(TooMany, "limit", 100000, peak_in, more, plan, "t", (0,))
+        self.assertSame(touched_in(more, plan, plan.root, "r", (7, 1)), 0)
+
     def test_peaks(self):
         self.assertSame([peak_in(THREE, PLAN, "r", (1, 2)), peak_in(Store(TRI, {}), PLAN, "r", (1, 2))], [1, 1])
         store = Store(TRI, {"s": tuple((2, at) for at in range(7))})

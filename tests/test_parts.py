@@ -7,7 +7,7 @@ from tests.force import many
 from tests.samples import LONGEST, TRI, Strict
 from touchrows.base.powers import power
 from touchrows.base.views import columns_among, is_view
-from touchrows.data.joins import Part, joined
+from touchrows.data.joins import Part, count_joined, joined
 from touchrows.data.rows import is_row, picked, places_of
 
 
@@ -50,12 +50,30 @@ class Joins(Strict, unittest.TestCase):
                 if all(tuple(row[names.index(column)] for column in header) in rows for header, rows in parts)
             ]
             self.assertSame(list(joined([Part(header, rows) for header, rows in parts])), wanted)
+            for some in itertools.chain.from_iterable(itertools.combinations(names, size) for size in range(5)):
+                told = {tuple(row[names.index(column)] for column in some) for row in wanted}
+                self.assertSame(count_joined([Part(header, rows) for header, rows in parts], some), len(told))
 
     def test_without_columns(self):
         self.assertSame(list(joined([])), [()])
         self.assertSame(list(joined([Part((), [()])])), [()])
         self.assertSame(list(joined([Part((), []), Part(("a",), [(1,)])])), [])
         self.assertSame(list(joined([Part((), [()]), Part(("a",), [(2,), (1,)])])), [(1,), (2,)])
+
+    def test_rings_without_a_row(self):
+        # Each two of the parts agree on their common column, but there is no ring.
+        pairs = [(("a", "b"), [(0, 0), (1, 1)]), (("b", "c"), [(0, 0), (1, 1)]), (("a", "c"), [(0, 1), (1, 0)])]
+        for wanted in ((), ("a",), ("b", "c"), ("a", "b", "c")):
+            self.assertSame(count_joined([Part(header, rows) for header, rows in pairs], wanted), 0)
+        self.assertSame(list(joined([Part(header, rows) for header, rows in pairs])), [])
+
+    def test_great_counts(self):
+        column = [(number,) for number in range(2000)]
+        self.assertSame(count_joined([Part((name,), column) for name in "abcdef"], tuple("abcdef")), 2000 ** 6)
+        self.assertSame(count_joined([Part((name,), column) for name in "abcdef"], ("b", "e")), 2000 ** 2)
+        pairs = [(number, number % 2) for number in range(2000)]
+        self.assertSame(count_joined([Part((name, "z"), pairs) for name in "abcdef"], tuple("abcdefz")), 2 * 1000 ** 6)
+        self.assertSame(count_joined([], ()), 1)
 
     def test_parts_stay(self):
         rows = [(2, 1), (1, 1)]

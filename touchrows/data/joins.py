@@ -96,3 +96,73 @@ def _matching(part, other, shared):
     if len(common) == len(ours):
         return part
     return Part(part.header, [row for key in common for row in ours[key]])
+
+
+def count_joined(parts, wanted):
+    """How many rows of the wanted columns the joined rows come to, however many, without listing them."""
+    if not all([len(part.listed) > 0 for part in parts]):
+        return 0
+    return _counted(parts, len(parts), wanted)
+
+
+def _counted(parts, many, wanted):
+    """As above; only the first so many parts can have lost rows since they were settled the last time."""
+    settled = _settled(parts, many)
+    if settled is None:
+        return 0
+    count = 1
+    for group in _linked(settled):
+        count = count * _counted_linked(group, wanted)
+    return count
+
+
+def _linked(parts):
+    """The parts in groups, such that parts of different groups have no column in common."""
+    groups = []
+    for part in parts:
+        near, apart = [part], []
+        for group in groups:
+            if any([column in part.header for other in group for column in other.header]):
+                near.extend(group)
+            else:
+                apart.append(group)
+        groups = [*apart, near]
+    return groups
+
+
+def _counted_linked(parts, wanted):
+    """As above, for settled parts that are one group."""
+    if len(parts) == 1:
+        columns = tuple([column for column in parts[0].header if column in wanted])
+        return len(parts[0].by(columns))
+    column = _most_common(parts, wanted)
+    if column is None:
+        return 1 if _is_joined(parts) else 0
+    heads = [part for part in parts if column in part.header]
+    others = [part for part in parts if column not in part.header]
+    keys = list(heads[0].by((column,)))
+    total = 0
+    for key in keys:
+        fixed = [_fixed(part, column, key) for part in heads]
+        total += _counted(fixed + others, len(fixed), wanted)
+    return total
+
+
+def _most_common(parts, wanted):
+    """The wanted column that most of the parts have; None if they have none."""
+    columns = [column for part in parts for column in part.header if column in wanted]
+    return max(columns, key=lambda name: columns.count(name), default=None)
+
+
+def _is_joined(parts):
+    """Whether there is any joined row."""
+    for _ in joined(parts):
+        return True
+    return False
+
+
+def _fixed(part, column, key):
+    """The part of what stands beside a value in a column."""
+    rest = tuple([other for other in part.header if other != column])
+    places = places_of(part.header, rest)
+    return Part(rest, [picked(row, places) for row in part.by((column,))[key]])

@@ -129,8 +129,9 @@ def _pairs_of(rows):
 def _changed(store, table, listed):
     """The store with other rows, which ascend, in one table."""
     # The rows have been looked at already, so they go around the check of the class.
+    rows = store.rows
     made = Store(store.question, {})
-    made._rows = {**store.rows, table: listed}
+    made._rows = {**rows, table: listed}
     made._pairs = _pairs_of(made._rows)
     return made
 

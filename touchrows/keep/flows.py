@@ -4,7 +4,7 @@ Contents are a dict from rows of kept columns to numbers of readings. Where cont
 they are a dict from the views to these.
 """
 
-from touchrows.data.joins import Part, joined
+from touchrows.data.joins import Part, count_joined, joined
 from touchrows.data.rows import picked, places_of
 from touchrows.data.stores import MAX_READINGS
 from touchrows.errors import TooMany
@@ -77,3 +77,14 @@ def risen(plan, path, row, contents, limits):
             many, changed[view] = gathered(plan, view, changed, limits.get(view))
         triples.append((view, many, changed[view]))
     return triples
+
+
+def touched_numbers(plan, path, row, contents):
+    """How many rows the change of one row of a table touches at each view of its path, however many."""
+    parts = [Part(plan.met(path[0]), [row])]
+    numbers = [1]
+    for child, view in zip(path, path[1:]):
+        others = [other for other in plan.children(view) if other != child]
+        parts.extend([Part(plan.kept(other), list(contents[other])) for other in others])
+        numbers.append(count_joined(parts, plan.met(view)))
+    return tuple(numbers)

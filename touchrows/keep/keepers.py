@@ -2,7 +2,7 @@
 
 from touchrows.data.stores import MAX_READINGS, Store, is_row_of
 from touchrows.errors import InvalidPlan, InvalidRow, InvalidStore, InvalidView, UnknownName
-from touchrows.keep.flows import all_contents, met_rows, risen
+from touchrows.keep.flows import all_contents, met_rows, risen, touched_numbers
 from touchrows.plan.plans import Plan
 
 
@@ -43,38 +43,35 @@ class Keeper:
     def put(self, table, row):
         """Put a row into a table; the tuple of the numbers of rows that this touches, from below to the root."""
         store = self._store.with_row(table, row)
-        path = self._plan.path(table)
-        limits = {view: MAX_READINGS - sum(self._contents[view].values()) for view in path}
-        triples = risen(self._plan, path, row, self._contents, limits)
-        self._carry_out(triples, 1)
-        self._store = store
-        return self._noted("put", table, row, triples)
+        limits = {view: MAX_READINGS - sum(self._contents[view].values()) for view in self._plan.path(table)}
+        return self._carried_out("put", table, row, store, limits)
 
     def take(self, table, row):
         """Take a row out of a table; the numbers as of `put`."""
         store = self._store.without_row(table, row)
-        triples = risen(self._plan, self._plan.path(table), row, self._contents, {})
-        self._carry_out(triples, -1)
-        self._store = store
-        return self._noted("take", table, row, triples)
+        return self._carried_out("take", table, row, store, {})
 
-    def _carry_out(self, triples, sign):
-        """Add to the contents what has risen, or take it away."""
+    def _carried_out(self, word, table, row, store, limits):
+        """Carry out a change that leads to a store; the numbers of rows that it touches."""
+        # What can be refused is refused in here, ahead of all that changes.
+        triples = risen(self._plan, self._plan.path(table), row, self._contents, limits)
         for view, _, added in triples:
-            contents = self._contents[view]
-            for kept, count in added.items():
-                left = contents.get(kept, 0) + sign * count
-                if left:
-                    contents[kept] = left
-                else:
-                    del contents[kept]
-
-    def _noted(self, word, table, row, triples):
-        """Keep in mind a change that has been carried out; the numbers of rows that it touched."""
-        touched = _numbers_of(triples)
+            self._add(view, added, 1 if word == "put" else -1)
+        touched = tuple([triple[1] for triple in triples])
+        self._store = store
         self._changes.append((word, table, row))
         self._total = self._total + sum(touched)
         return touched
+
+    def _add(self, view, added, sign):
+        """Add some contents to those of a view, or take them away."""
+        contents = self._contents[view]
+        for kept, count in added.items():
+            left = contents.get(kept, 0) + sign * count
+            if left:
+                contents[kept] = left
+            else:
+                del contents[kept]
 
     def __call__(self, table, row):
         if self._store.has_row(table, row):
@@ -85,7 +82,7 @@ class Keeper:
         """The numbers of rows that the change of a row would touch."""
         path = self._plan.path(table)
         self._check_row(table, row)
-        return _numbers_of(risen(self._plan, path, row, self._contents, {}))
+        return touched_numbers(self._plan, path, row, self._contents)
 
     def touched_rows(self, view, table, row):
         """The ascending tuple of the rows that the change of a row would touch at a view."""
@@ -138,8 +135,3 @@ class Keeper:
 
     def __str__(self):
         return f"keeper of {self._plan.text}, {len(self._store)} rows, {self._total} touched"
-
-
-def _numbers_of(triples):
-    """How many rows a change touches at each view of a path, by what `risen` returns."""
-    return tuple([triple[1] for triple in triples])

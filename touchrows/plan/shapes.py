@@ -20,18 +20,18 @@ def _inner_views(names):
 def _choices(names):
     """A generator of all tuples of inner views that go together, in the order of their plans."""
     left = _inner_views(names)
-    later = {view: {other: True for other in left if view < other and go_together(view, other)} for view in left}
-    yield from _grown((), left, later)
+    beside = {view: {other: True for other in left if go_together(view, other)} for view in left}
+    yield from _grown((), left, beside)
 
 
-def _grown(begun, left, later):
+def _grown(begun, left, beside):
     """A generator of the choices that begin with some views; `left` has those that can stand behind these, and
-    `later` tells which can stand behind which.
+    `beside` tells which go together.
     """
     for at, view in enumerate(left):
         more = (*begun, view)
-        rest = [other for other in left[at + 1:] if other in later[view]]
-        yield from _grown(more, rest, later)
+        rest = [other for other in left[at + 1:] if other in beside[view]]
+        yield from _grown(more, rest, beside)
     # The plan with no more of them comes last, because in its stead it has a greater view, if only that of the last
     # table alone.
     yield begun

@@ -16,7 +16,7 @@ def touched_at(store, plan, view, table, row):
     """How many rows the change of a row of a table touches at a view that has the table."""
     question = plan.question
     others = [name for name in view if name != table]
-    parts = [Part(question.tables[table], [row]), *parts_of(store, others)]
+    parts = [Part(question.tables[table], [row])] + parts_of(store, others)
     places = places_of(columns_among(question, view), plan.met(view))
     many = 0
     touched = {}

@@ -18,8 +18,8 @@ def spread(plan, view, table, weights):
     """The least common denominator of a filling and of the sizes of all tables."""
     if not is_filling(plan, view, table, weights):
         raise InvalidWeights("a store is spread out by a filling")
-    ratios = [*ratios_of(weights).values(), *plan.question.sizes.values()]
-    return common_bottom(ratios)
+    sizes = plan.question.sizes
+    return common_bottom(list(ratios_of(weights).values()) + list(sizes.values()))
 
 
 def _check_growth(number):
@@ -86,9 +86,10 @@ def is_witness(plan, view, table, value):
 
 def _is_power(touched, number, ratio):
     """Whether so many rows are the number to the power of a ratio of at least 0."""
-    if number == 1 or ratio.top == 0:
+    if number == 1:
         return touched == 1
-    # As the ratio is in lowest terms, the number is then a power with its bottom as the exponent.
+    # As the ratio is in lowest terms, there is an integer of which the number is the power with the bottom of the
+    # ratio as its exponent, and the rows the power with the top. So neither of these can be great.
     if ratio.bottom > number.bit_length() or ratio.top > touched.bit_length():
         return False
     return power(touched, ratio.bottom) == power(number, ratio.top)
