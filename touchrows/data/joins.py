@@ -100,8 +100,6 @@ def _matching(part, other, shared):
 
 def count_joined(parts, wanted):
     """How many rows of the wanted columns the joined rows come to, however many, without listing them."""
-    if not all([len(part.listed) > 0 for part in parts]):
-        return 0
     return _counted(parts, len(parts), wanted)
 
 
