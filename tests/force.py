@@ -163,3 +163,30 @@ def drawn_weights(draw, names):
 def places_of_plan(plan):
     """All pairs of a view and a table of it."""
     return [(view, table) for view in plan.views for table in view]
+
+
+def open_by_force(plan, view, table):
+    own = plan.question.tables[table]
+    return tuple(column for column in met_by_force(plan, view) if column not in own)
+
+
+def all_plans(question):
+    """All plans for a question, found by force, in ascending order of their views."""
+    return [Plan(question, views) for views in plans_by_force(question)]
+
+
+def drawn_questions(times, seed, most=4, **named):
+    """Drawn questions of up to so many tables, each with its random source."""
+    for draw in many(times, seed):
+        yield draw, drawn_question(draw, draw.randint(1, most), **{"columns": draw.randint(1, 6), **named})
+
+
+def drawn_history(draw, store, length, values=3):
+    """A history for a store, of up to so many changes; a change that cannot follow is left out."""
+    there, told = set(store), []
+    for _ in range(length):
+        table = draw.choice(store.question.names)
+        pair = (table, drawn_row(draw, store.question, table, values))
+        told.append(("take" if pair in there else "put", *pair))
+        there ^= {pair}
+    return tuple(told)

@@ -42,6 +42,23 @@ DEFINED = {
         "is_parting": "plan, view, other, above, table, value", "is_dearer": "plan, other, table, value",
         **{name: "plan, other, table" for name in ("is_no_dearer", "dearer_store")},
     },
+    "touchrows.best.nested": {
+        "is_constant": "plan", "crossing_degree": "plan, told", "is_crossing_degree": "plan, told, value",
+        **{name: "question" for name in ("constant_plan", "has_constant_plan", "crossing", "each_crossing")},
+        "is_crossing": "question, value",
+    },
+    "touchrows.best.least": {
+        **{name: "question" for name in ("least_degree", "least_plan", "each_least_plan", "front")}, "bill": "plan",
+        **{name: "question, value" for name in ("is_least_plan", "plan_with", "is_lean")},
+        **{name: "question, table" for name in ("least_for", "plan_for")},
+    },
+    "touchrows.keep.dear": {
+        **{name: "plan, store, view, table" for name in ("most_touched", "dearest_row")},
+        "is_dearest_row": "plan, store, view, table, value", "is_history": "store, value", "cheapest": "store, history",
+        **{name: "plan, store, table" for name in ("most_in_all", "dearest_in_all")}, "led_back": "history",
+        **{name: "plan, store, history" for name in ("run", "total_of")},
+    },
+    "touchrows.use.bench": {"Bench": "plan"},
 }
 # Parameters of methods; those of the signs are checked by using them.
 METHOD_PARAMETERS = {
@@ -60,12 +77,18 @@ METHOD_PARAMETERS = {
         "put": "table, row", "take": "table, row", "foreseen": "table, row", "touched_rows": "view, table, row", "twin": "",
         "__call__": "table, row",
     },
+    "touchrows.use.bench.Bench": {
+        **{name: "view" for name in ("draw", "erase")}, "resize": "name, size", "regroup": "groups", "trial": "", "twin": "",
+        **{name: "pledge" for name in ("demand", "waive")}, **{name: "*, many=1" for name in ("undo", "redo")}, "during": "call",
+    },
 }
 CONSTANTS = {
     "touchrows.base.words": {"MAX_LETTERS": 8, "MAX_FIGURES": 60},
     "touchrows.base.questions": {"MAX_TABLES": 6, "MAX_COLUMNS": 8, "MAX_SIZE": 9},
     "touchrows.data.stores": {"MAX_ROWS": 2000, "MAX_READINGS": 100000},
     "touchrows.weigh.worst": {"MAX_GROWTH": 1000},
+    "touchrows.best.least": {"MAX_PLANS": 300},
+    "touchrows.use.bench": {"MAX_PLEDGES": 10},
 }
 METHODS = {
     "touchrows.base.ratios.Ratio": (
@@ -85,6 +108,10 @@ METHODS = {
     "touchrows.keep.keepers.Keeper": (
         "put take foreseen touched_rows twin __call__ __getitem__ __len__ __eq__ __str__", "",
         "plan store result total changes",
+    ),
+    "touchrows.use.bench.Bench": (
+        "draw erase resize regroup demand waive undo redo trial during twin __contains__ __len__ __iter__ __eq__ __str__", "",
+        "plan question costs pledges",
     ),
 }
 

@@ -1,0 +1,1 @@
+"""Plans that are best for their question."""
