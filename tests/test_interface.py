@@ -59,6 +59,23 @@ DEFINED = {
         **{name: "plan, store, history" for name in ("run", "total_of")},
     },
     "touchrows.use.bench": {"Bench": "plan"},
+    "touchrows.text.texts": {
+        "write_question": "question", "write_store": "store", "write_weights": "weights", "write_change": "change",
+        "write_witness": "value", **{f"read_{name}": "text" for name in ("question", "weights", "change")},
+        **{f"read_{name}": "question, text" for name in ("store", "witness")},
+    },
+    "touchrows.text.shell": {"Shell": "text"},
+    "touchrows.weigh.totals": {
+        **{name: "plan, view, table" for name in ("total_columns", "total_degree", "total_covering", "total_filling")},
+        **{name: "plan, view, table, value" for name in ("is_total_covering", "is_total_filling")},
+        "table_total": "plan, table", "plan_total": "plan", "growing_history": "plan, view, table, weights, number",
+        "touched_by_puts": "plan, history, view, table",
+    },
+    "touchrows.best.growing": {
+        **{name: "question" for name in ("least_total", "least_total_plan", "each_least_total_plan")},
+        "is_least_total_plan": "question, value", "saving": "plan, view, table",
+        "repeated_changes": "plan, view, table, weights, number, many",
+    },
 }
 # Parameters of methods; those of the signs are checked by using them.
 METHOD_PARAMETERS = {
@@ -81,6 +98,7 @@ METHOD_PARAMETERS = {
         **{name: "view" for name in ("draw", "erase")}, "resize": "name, size", "regroup": "groups", "trial": "", "twin": "",
         **{name: "pledge" for name in ("demand", "waive")}, **{name: "*, many=1" for name in ("undo", "redo")}, "during": "call",
     },
+    "touchrows.text.shell.Shell": {"answer": "line", "__call__": "line", "bench": "", "keeper": ""},
 }
 CONSTANTS = {
     "touchrows.base.words": {"MAX_LETTERS": 8, "MAX_FIGURES": 60},
@@ -113,6 +131,7 @@ METHODS = {
         "draw erase resize regroup demand waive undo redo trial during twin __contains__ __len__ __iter__ __eq__ __str__", "",
         "plan question costs pledges",
     ),
+    "touchrows.text.shell.Shell": ("answer bench keeper __call__ __len__", "", ""),
 }
 
 

@@ -1,7 +1,7 @@
 """Integers as decimal texts.
 
-Results can have more digits than Python itself writes, so the writing goes block by block. What is read is
-passed by a caller, and has at most sixty digits.
+Results can have more digits than Python itself writes, and what was told can be read again. So great integers are
+written and read block by block.
 """
 
 from touchrows.base.words import BEYOND, MAX_FIGURES
@@ -27,3 +27,14 @@ def integer_in(text):
     number = int(text)
     # Leading zeros and -0 are read above, but never written.
     return number if str(number) == text else None
+
+
+def great_in(text):
+    """The integer of at least 1, of whatever length, of which a string is the text; None if it is no such text."""
+    if not text.isascii() or not text.isdigit() or text.startswith("0"):
+        return None
+    ahead = len(text) % MAX_FIGURES
+    number = int(text[:ahead]) if ahead else 0
+    for at in range(ahead, len(text), MAX_FIGURES):
+        number = number * BEYOND + int(text[at:at + MAX_FIGURES])
+    return number

@@ -1,11 +1,23 @@
 """Rows: tuples of integers, one for each of some ascending columns."""
 
+from touchrows.base.figures import integer_in
 from touchrows.base.words import is_integer
 
 
 def is_row(value, many):
     """Whether the value is a row of so many columns."""
     return isinstance(value, tuple) and len(value) == many and all([is_integer(one) for one in value])
+
+
+def row_text(row):
+    """The text of a row: its values, with single blanks between them."""
+    return " ".join([str(one) for one in row])
+
+
+def row_in(words):
+    """The row of which these are the texts of the values; None if one of them is no such text."""
+    row = tuple([integer_in(word) for word in words])
+    return None if None in row else row
 
 
 def places_of(columns, wanted):

@@ -3,7 +3,7 @@
 from touchrows.data.rows import all_rows
 from touchrows.data.stores import Store, is_row_of
 from touchrows.errors import InvalidPlan, InvalidRow, InvalidStore, UnknownName
-from touchrows.weigh.checks import check_place, check_plan, check_view
+from touchrows.weigh.checks import check_place, check_plan, check_table, check_view
 from touchrows.weigh.touches import is_change, touched_at
 from touchrows.weigh.worst import worst_row
 
@@ -28,8 +28,7 @@ def _check_plans(plan, other, table):
     """Raise the error of what are no two plans for one question, with a table."""
     check_plan(plan)
     _check_other(plan, other)
-    if table not in plan.question:
-        raise UnknownName(table)
+    check_table(plan.question, table)
 
 
 def _check_store(store, plan):
@@ -109,8 +108,7 @@ def _is_pair(plan, table, value):
 def peak_in(store, plan, table, row):
     """The greatest number of rows that the change of a row of a table touches at a view, in a store."""
     _check_store(store, plan)
-    if table not in plan.question:
-        raise UnknownName(table)
+    check_table(plan.question, table)
     _check_row(plan, table, row)
     return _peak_at(store, plan, table, row)
 

@@ -2,11 +2,10 @@
 
 from touchrows.base.powers import power
 from touchrows.base.words import is_integer
-from touchrows.data.rows import all_rows
 from touchrows.data.stores import MAX_ROWS, Store
-from touchrows.errors import InvalidNumber, InvalidWeights, TooMany, UnknownName
-from touchrows.weigh.checks import check_place, check_plan
-from touchrows.weigh.pairs import common_bottom, ratios_of
+from touchrows.errors import InvalidNumber, InvalidWeights
+from touchrows.weigh.checks import check_place, check_plan, check_table
+from touchrows.weigh.growth import Growth, common_of
 from touchrows.weigh.programs import worth_of
 from touchrows.weigh.touches import is_change, touched_at
 from touchrows.weigh.weights import degree, is_filling, is_greatest_filling
@@ -18,11 +17,10 @@ def spread(plan, view, table, weights):
     """The least common denominator of a filling and of the sizes of all tables."""
     if not is_filling(plan, view, table, weights):
         raise InvalidWeights("a store is spread out by a filling")
-    sizes = plan.question.sizes
-    return common_bottom(list(ratios_of(weights).values()) + list(sizes.values()))
+    return common_of(plan.question, weights)
 
 
-def _check_growth(number):
+def check_growth(number):
     """Raise the error of what is no number that a store can grow by."""
     if not is_integer(number) or not 1 <= number <= MAX_GROWTH:
         raise InvalidNumber(number)
@@ -30,28 +28,19 @@ def _check_growth(number):
 
 def worst_store(plan, view, table, weights, number):
     """The store in which each open column has as many values as its weight says, and tables all rows of these."""
-    common = spread(plan, view, table, weights)
-    _check_growth(number)
-    exponents = {name: ratio.top * (common // ratio.bottom) for name, ratio in ratios_of(weights).items()}
-    tables = plan.question.tables
+    spread(plan, view, table, weights)
+    check_growth(number)
+    growth = Growth(plan.question, weights, number)
     others = [name for name in view if name != table]
     for name in others:
-        _check_many(number, sum([exponents.get(column, 0) for column in tables[name]]))
-    counts = {column: power(number, exponent) for column, exponent in exponents.items()}
-    return Store(plan.question, {name: all_rows(tables[name], counts) for name in others})
-
-
-def _check_many(number, exponent):
-    """Raise the error of a power that is more rows than a table can have."""
-    # The exponent can be too great for the power to be written out at all.
-    if number > 1 and (exponent > MAX_ROWS.bit_length() or power(number, exponent) > MAX_ROWS):
-        raise TooMany(MAX_ROWS)
+        growth.many_rows(name, MAX_ROWS)
+    return Store(plan.question, {name: growth.rows_of(name) for name in others})
 
 
 def worst_touched(plan, view, table, weights, number):
     """How many rows the put of the worst row touches, however many."""
     common = spread(plan, view, table, weights)
-    _check_growth(number)
+    check_growth(number)
     total = worth_of(weights)
     return power(number, total.top * (common // total.bottom))
 
@@ -59,8 +48,7 @@ def worst_touched(plan, view, table, weights, number):
 def worst_row(plan, table):
     """The row of a table of which all values are 0."""
     check_plan(plan)
-    if table not in plan.question:
-        raise UnknownName(table)
+    check_table(plan.question, table)
     return tuple([0 for _ in plan.question.tables[table]])
 
 

@@ -1,0 +1,1 @@
+"""Texts of values, and a shell that is used by texts alone."""
