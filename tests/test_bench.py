@@ -28,7 +28,7 @@ NO_PLEDGES = (
     ("room", (False, 1)), ("constant", None), ("constant", ()), ("Constant",), ("constant", (1, 1)), ["constant"], "constant", ("answers",),
     ("answers", ()), ("answers", list(TRI.lines)), ("answers", TRI), ("answers", TRI.lines, None), ("answers", TRI.lines[::-1]),
     ("answers", (*TRI.lines, "size r 1")), ("answers", TRI.lines[:2] + ("table t c a",)), ("answers", ("table r a", "group b")),
-    ("answers", ("table r a", "table r a")), ("answers", ("table r",)), ("answers", (None,)), ("answers", "table r a b"),
+    ("answers", ("table r a", "table r a")), ("answers", ("table r",)), ("answers", (None,)), ("answers", None), ("answers", 1), ("answers", True), ("answers", "table r a b"),
     ("answers", tuple(f"table {name} a" for name in "pqrstuv")), ("answers", ("table r a", "size r 10")), ("answers", ("group a", "table r a")),
     ("answers", ("size r 1/2", "table r a")), ("answers", (1, 2)), ("", (1, 1)), (None,), ((),), ("degrees", (1, 1)),
 )

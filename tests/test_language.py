@@ -150,6 +150,62 @@ class Shapes(unittest.TestCase):
             defined |= {one.targets[0].id for one in tree.body if isinstance(one, ast.Assign)}
             self.assertLessEqual(words, defined, (name, node.lineno))
 
+    def test_no_circles_of_imports(self):
+        needs = {name: set() for name in TREES}
+        for name, node in nodes(ast.ImportFrom):
+            if node.module not in LIBRARY:
+                needs[name].add(node.module.replace(".", "/") + ".py")
+        while needs:
+            free = [name for name in needs if not needs[name] & set(needs)]
+            self.assertNotEqual(free, [], sorted(needs))
+            for name in free:
+                del needs[name]
+
+    def test_stars_stand_before_names(self):
+        for name, node in nodes(ast.Call):
+            for told in node.args:
+                if isinstance(told, ast.Starred):
+                    self.assertIsInstance(told.value, ast.Name, (name, node.lineno))
+            self.assertTrue(all(told.arg for told in node.keywords), (name, node.lineno))
+
+    def test_imported_names_are_used_for_nothing_else(self):
+        for name, tree in TREES.items():
+            taken = [one.name for one in tree.body if isinstance(one, ast.ClassDef)]
+            taken += [one.name for node in tree.body if isinstance(node, ast.ImportFrom) for one in node.names]
+            told = [node.arg for node in ast.walk(tree) if isinstance(node, ast.arg)]
+            told += [node.id for node in ast.walk(tree) if isinstance(node, ast.Name) and isinstance(node.ctx, ast.Store)]
+            self.assertEqual(set(taken) & set(told), set(), name)
+            self.assertEqual(len(taken), len(set(taken)), name)
+            read = {node.id for node in ast.walk(tree) if isinstance(node, ast.Name)}
+            self.assertLessEqual(set(taken) - {one.name for one in tree.body if isinstance(one, ast.ClassDef)}, read, name)
+
+    def test_names_of_methods_are_no_attributes(self):
+        methods = own_methods()
+        for name, node in nodes(ast.Attribute):
+            if isinstance(node.ctx, ast.Store):
+                self.assertNotIn(node.attr, methods, (name, node.lineno))
+
+    def test_generators_have_their_own_names(self):
+        defined = [node for _, node in nodes(ast.FunctionDef)]
+        generators = {node.name for node in defined if holds(node, (ast.Yield, ast.YieldFrom))}
+        for word in generators:
+            self.assertEqual(sum(node.name == word for node in defined), 1, word)
+        for name, node in nodes(ast.Name):
+            if node.id in generators:
+                self.assertIsInstance(node.ctx, ast.Load, (name, node.lineno))
+
+    def test_handlers_have_their_own_names(self):
+        for name, node in nodes(ast.FunctionDef):
+            told = [one.name for one in holds(node, ast.ExceptHandler) if one.name]
+            self.assertEqual(len(told), len(set(told)), (name, node.name))
+
+    def test_sets_are_sorted_or_counted_at_once(self):
+        for name, tree in TREES.items():
+            inside = {id(part) for call in holds(tree, ast.Call) if getattr(call.func, "id", "") in ("sorted", "len") for part in call.args}
+            for node in holds(tree, (ast.Set, ast.SetComp, ast.Call)):
+                if not isinstance(node, ast.Call) or getattr(node.func, "id", "") == "set":
+                    self.assertIn(id(node), inside, (name, node.lineno))
+
     def test_decorators(self):
         for name, node in nodes(ast.FunctionDef):
             for told in node.decorator_list:

@@ -35,7 +35,6 @@ def crossing(question):
 
 def is_crossing(question, value):
     """Whether the value is a crossing of a question."""
-    check_question(question)
     return value in list(each_crossing(question))
 
 
@@ -64,8 +63,7 @@ def _crossed(question, first, second):
 
 def _left_out(question):
     """The ascending list of pairs of a group column and of a table that does not have it."""
-    if len(question) == 1:
-        return []
+    # One table alone has all group columns.
     tables = question.tables
     return [(column, table) for column in question.groups for table in tables if column not in tables[table]]
 

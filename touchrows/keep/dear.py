@@ -8,7 +8,7 @@ from touchrows.data.stores import Store, is_row_of, readings
 from touchrows.errors import InvalidOperation, InvalidStore
 from touchrows.keep.keepers import Keeper
 from touchrows.plan.shapes import each_plan
-from touchrows.weigh.checks import check_plan, check_place, check_table
+from touchrows.weigh.checks import check_place, check_plan
 
 
 def _check_store(plan, store):
@@ -106,7 +106,6 @@ def _sums(plan, store, table):
     the last view where it touches any: at its other columns it does not matter.
     """
     _check_store(plan, store)
-    check_table(plan.question, table)
     tallies = [Tally(plan, store, view, table) for view in plan.path(table)]
     rows = [tally.row_at(values) for tally in tallies for values in tally.counts]
     return {row: sum([tally.of_row(row) for tally in tallies]) for row in rows}

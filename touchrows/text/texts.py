@@ -86,7 +86,7 @@ def write_weights(weights):
 def read_weights(text):
     """The weights of which this is the text."""
     weights = _weights_in(text) if isinstance(text, str) else None
-    if weights is None or not is_weights(weights):
+    if not is_weights(weights):
         raise ParseError(None)
     return weights
 

@@ -4,7 +4,6 @@ from touchrows.base.words import is_count
 from touchrows.best.least import bill
 from touchrows.errors import InvalidNumber, InvalidOperation, NothingToUndo, Refused, TooMany
 from touchrows.use.pledges import holds, is_pledge, stands_among
-from touchrows.weigh.checks import check_plan
 
 MAX_PLEDGES = 10
 
@@ -49,7 +48,6 @@ class Bench:
     """A plan, its pledges, and the changes that can be taken back and done again."""
 
     def __init__(self, plan):
-        check_plan(plan)
         self.line = Line(((plan, (), bill(plan)),), 0)
 
     @property

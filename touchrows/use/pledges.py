@@ -12,7 +12,7 @@ from touchrows.weigh.rooms import plan_degree, plan_room, table_degree
 
 def is_pledge(value):
     """Whether the value is a pledge, whatever it is about."""
-    if not isinstance(value, tuple) or len(value) == 0 or not isinstance(value[0], str):
+    if not isinstance(value, tuple) or not value:
         return False
     word, *rest = value
     if word == "constant":

@@ -5,7 +5,7 @@ from touchrows.data.changes import MAX_CHANGES
 from touchrows.data.stores import Store
 from touchrows.errors import InvalidOperation, InvalidWeights, TooMany
 from touchrows.keep.dear import is_history, run
-from touchrows.weigh.checks import check_place, check_plan, check_table
+from touchrows.weigh.checks import check_place, check_plan
 from touchrows.weigh.growth import Growth
 from touchrows.weigh.programs import Program
 from touchrows.weigh.worst import check_growth
@@ -51,7 +51,6 @@ def is_total_filling(plan, view, table, value):
 def table_total(plan, table):
     """The greatest total degree of a table over all views of its path."""
     check_plan(plan)
-    check_table(plan.question, table)
     return greatest_of(tuple([total_degree(plan, view, table) for view in plan.path(table)]))
 
 
