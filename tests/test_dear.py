@@ -3,7 +3,9 @@
 import itertools
 import unittest
 
-from tests.force import all_plans, drawn_history, drawn_plan, drawn_questions, drawn_row, drawn_store, places_of_plan, touched_by_force
+from tests.force import (
+    all_plans, drawn_history, drawn_plan, drawn_question, drawn_questions, drawn_store, many, places_of_plan, touched_by_force,
+)
 from tests.samples import LONGEST, PATH, PLAN, STAR, THREE, TRI, Strict, all_kinds, kinds_but
 from touchrows.base.questions import Question
 from touchrows.base.ratios import Ratio
@@ -14,6 +16,7 @@ from touchrows.keep.dear import (
 )
 from touchrows.keep.keepers import Keeper
 from touchrows.plan.plans import Plan, flat_plan
+from touchrows.plan.shapes import each_plan
 
 RS = ("r", "s")
 APART = Question({"r": ("a",), "s": ("b",), "t": ("c",)}, ("a", "b"))
@@ -191,6 +194,24 @@ class Histories(Strict, unittest.TestCase):
             self.assertSame(cheapest(store, told), (least, tuple(sorted(text for text in totals if totals[text] == least))))
             seen.add((len(totals), len(cheapest(store, told)[1]) < len(totals)))
         self.assertLessEqual({(1, False), (4, True), (26, True)}, seen)
+
+    def test_cheapest_of_five_tables(self):
+        for draw in many(3, "five tables"):
+            question = drawn_question(draw, 5, columns=6)
+            store = drawn_store(draw, question, 6, 2)
+            told = drawn_history(draw, store, 8, 2)
+            totals = {plan.text: total_of(plan, store, told) for plan in each_plan(question)}
+            least = min(totals.values())
+            self.assertSame(cheapest(store, told), (least, tuple(sorted(text for text in totals if totals[text] == least))))
+
+    def test_cheapest_at_the_limit(self):
+        full = Store(APART, {"r": column(2000), "s": column(50)})
+        put, take = ("put", "t", (7,)), ("take", "s", (3,))
+        self.assertSame(cheapest(full, (put,))[0], min(total_of(plan, full, (put,)) for plan in all_plans(APART)))
+        for history in ((put, ("put", "t", (8,))), (("put", "s", (50,)),), (take, ("put", "s", (3,)), ("put", "s", (50,)))):
+            self.assertKeeps(TooMany, "limit", 100000, cheapest, full, history)
+        for history in ((take, ("put", "s", (50,))), (put, ("take", "t", (7,)), ("put", "t", (8,))), (take, put)):
+            self.assertSame(cheapest(full, history)[0], min(total_of(plan, full, history) for plan in all_plans(APART)))
 
     def test_cheapest_of_no_changes(self):
         self.assertSame(cheapest(THREE, ()), (0, ("((r s) t)", "((r t) s)", "(r (s t))", "(r s t)")))

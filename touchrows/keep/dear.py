@@ -6,6 +6,7 @@ from touchrows.data.changes import can_follow, is_told_history, led_back_by
 from touchrows.data.rows import picked, places_of
 from touchrows.data.stores import Store, is_row_of, readings
 from touchrows.errors import InvalidOperation, InvalidStore
+from touchrows.keep.beside import totals_beside
 from touchrows.keep.keepers import Keeper
 from touchrows.plan.shapes import each_plan
 from touchrows.weigh.checks import check_place, check_plan
@@ -128,14 +129,9 @@ def run(plan, store, history):
     """The store behind a history, and the tuple of the numbers that its changes touch in a plan."""
     _check_store(plan, store)
     _check_history(store, history)
-    keeper, touched = _carried_out(plan, store, history)
-    return keeper.store, touched
-
-
-def _carried_out(plan, store, history):
-    """The keeper of a plan behind a history, and the tuple of the numbers that its changes touch."""
     keeper = Keeper(plan, store)
-    return keeper, tuple([keeper(table, row) for _, table, row in history])
+    touched = tuple([keeper(table, row) for _, table, row in history])
+    return keeper.store, touched
 
 
 def total_of(plan, store, history):
@@ -148,10 +144,7 @@ def cheapest(store, history):
     """The least total of a history over all plans, and the ascending tuple of the texts of the plans that have it."""
     _check_history(store, history)
     check_few_plans(store.question)
-    totals = {}
-    for plan in each_plan(store.question):
-        keeper, _ = _carried_out(plan, store, history)
-        totals[plan.text] = keeper.total
+    totals = totals_beside(list(each_plan(store.question)), store, history)
     least = min(list(totals.values()))
     return least, tuple(sorted([text for text in totals if totals[text] == least]))
 
